@@ -1,0 +1,1 @@
+"""Warnloop: a house's warning wires, from the plan to the last word of the log."""
