@@ -77,7 +77,9 @@ class IsPlan(unittest.TestCase):
         self.fails(plan_of([seeker(9, *[("bell", n + 1) for n in range(4)])]))
 
     def test_spurs_of_another_kind(self):
-        for spur in ([], None, "", 0, (("bell",),), (("bell", 2, ()),), (["bell", 2],), ("bell", 2), ((),), [("bell", 2)]):
+        for spur in (
+            [], None, "", 0, (("bell",),), (("bell", 2, ()),), (["bell", 2],), ("bell", 2), ((),), [("bell", 2)],
+        ):
             self.fails(plan_of([("seeker", 1, spur)]))
 
     def test_openers(self):
@@ -322,7 +324,8 @@ class Wrong(unittest.TestCase):
         mixed = [seeker(1, ("knob", 2), ("bell", 3)), ("door", 4, ()), ("knob", 5, ()), ("bell", 6, (("seeker", 7),))]
         self.assertIsNone(wrong(plan_of(mixed, zones=[("a", (1, 2)), ("b", (5, 7))])))
         for address in (3, 4, 6, 8):
-            self.assertEqual(wrong(plan_of(mixed, zones=[("b", (1, 2)), ("a", (address,))])), ("stranger", "a", address))
+            plan = plan_of(mixed, zones=[("b", (1, 2)), ("a", (address,))])
+            self.assertEqual(wrong(plan), ("stranger", "a", address))
 
     def test_the_first_zone_with_a_stranger(self):
         zones = [("c", (1,)), ("b", (7, 8)), ("a", (2, 3))]
