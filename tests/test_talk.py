@@ -306,7 +306,8 @@ class Histories(unittest.TestCase):
         answers = []
         for address in addresses:
             for _ in range(dice.choice((0, 0, 1, 1, 2, 3))):
-                told = frame(address, dice.choice((turn, turn, turn, (turn - dice.randint(1, 7)) % 8)), dice.randint(0, 2))
+                late = (turn - dice.randint(1, 7)) % 8
+                told = frame(address, dice.choice((turn, turn, turn, late)), dice.randint(0, 2))
                 if dice.random() < 0.2:
                     at = dice.randrange(4)
                     told = told[:at] + (told[at] + dice.choice((-1, 1, 5)),) + told[at + 1:]

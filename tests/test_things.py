@@ -3,7 +3,8 @@
 import unittest
 
 from samples import NO_NUMBERS, ODD_THINGS
-from warnloop.things import are_rising_within, are_wholes, is_name, is_rising, is_row, is_whole, is_within
+from warnloop.things import SIGNS, are_rising_within, are_wholes, is_line, is_name, is_rising, is_row, is_whole
+from warnloop.things import is_within
 
 
 class Numbers(unittest.TestCase):
@@ -72,6 +73,18 @@ class Names(unittest.TestCase):
             self.assertIs(is_name(thing), False, thing)
         for thing in (None, True, 1, ("a",), ["a"], ()):
             self.assertIs(is_name(thing), False, thing)
+
+
+class Lines(unittest.TestCase):
+    def test_signs(self):
+        self.assertEqual(SIGNS, "".join(chr(number) for number in range(32, 127) if number != 37))
+
+    def test_lines(self):
+        for many in (1, 2, 94):
+            self.assertIs(is_line(SIGNS[:many], 1, 94), True)
+        self.assertIs(is_line("", 0, 5), True)
+        for thing in ("", "123456", "a%", "a\n", "a\t", "\x7f", "\x1f", "\u00e9", None, True, 1, ("a",), ["a"], ()):
+            self.assertIs(is_line(thing, 1, 5), False, thing)
 
 
 if __name__ == "__main__":

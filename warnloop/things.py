@@ -1,6 +1,8 @@
 """What several modules ask of any thing that is handed in."""
 
 SMALL_LETTERS = "abcdefghijklmnopqrstuvwxyz"
+# Each sign from the blank to the last one, but the one that no text holds.
+SIGNS = " !\"#$&'()*+,-./0123456789:;<=>?@ABCDEFGHIJKLMNOPQRSTUVWXYZ[\\]^_`abcdefghijklmnopqrstuvwxyz{|}~"
 
 
 def is_whole(thing):
@@ -40,3 +42,10 @@ def is_name(thing):
     if not isinstance(thing, str):
         return False
     return 1 <= len(thing) <= 8 and all([sign in SMALL_LETTERS for sign in thing])
+
+
+def is_line(thing, least, most):
+    """Whether the thing is a text of least to most signs, without a line end."""
+    if not isinstance(thing, str) or not least <= len(thing) <= most:
+        return False
+    return all([sign in SIGNS for sign in thing])
