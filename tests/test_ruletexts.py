@@ -273,6 +273,17 @@ class Spoilt(TextTests):
             self.refused(text)
         self.assertEqual(len(read_rules(row * 16)), 16)
 
+    def test_rows_left_out_and_doubled(self):
+        rows = RULES_TEXT.splitlines(keepends=True)
+        for at in range(len(rows)):
+            # What is left is written of other rules, let by or not.
+            self.assertEqual(read_rules("".join(rows[:at] + rows[at + 1:])), RULES[:at] + RULES[at + 1:])
+            self.assertEqual(read_rules("".join(rows[:at + 1] + rows[at:])), RULES[:at + 1] + RULES[at:])
+            self.refused("".join(rows[:at]) + rows[at].rstrip("\n") + "".join(rows[at:]))
+            self.refused("".join(rows[:at]) + "\n" + "".join(rows[at:]))
+        self.refused("".join(rows[:0]))
+        self.refused("".join(rows + rows + rows))
+
     def test_things_that_are_no_text(self):
         for thing in ODD_THINGS + [RULES, list(RULES), (RULES_TEXT,), [RULES_TEXT], nested(12, RULES_TEXT), {}, 5]:
             self.refused(thing)
