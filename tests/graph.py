@@ -41,6 +41,10 @@ class Graph:
     def has_short(self, wires):
         return "short" in [self.hows.get(stretch, "whole") for stretch in wires]
 
+    def openers(self):
+        ends = [(loop, at) for loop, last in enumerate(self.lasts) for at in (0, last)]
+        return sorted(list(self.links) + ends)
+
     def parts_by_act(self, opener):
         return any(self.has_short(self.search((side,) + opener)[0]) for side in ("a side", "b side"))
 
@@ -58,3 +62,12 @@ class Graph:
         if self.has_short(self.search(self.end_node(loop, end))[0]):
             return []
         return self.ways(loop, end)
+
+
+def rest_of(plan, faults):
+    """The openers that are parted at rest, rising: from all closed, each acts in two rounds."""
+    gaps = []
+    for opener in Graph(plan, dict(faults), gaps).openers() * 2:
+        parts = Graph(plan, dict(faults), gaps).parts_by_act(opener)
+        gaps = sorted(set(gaps) - {opener} | ({opener} if parts else set()))
+    return tuple(gaps)

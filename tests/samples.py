@@ -57,6 +57,13 @@ ODD_THINGS = NO_NUMBERS + [
     tuple(range(3000)), list(range(3000)), (1, 2), [1, 2, 3], ("opener", 0, ()), ("seeker", 1, ()),
 ]
 
+# What is no plan, and plans that are not let by, each for another reason.
+NO_PLANS = ODD_THINGS + [
+    plan_of([seeker(1), seeker(1)]), plan_of([seeker(1), seeker(2)], most=1), plan_of([seeker(1)], zones=[("a", (9,))]),
+    plan_of([seeker(1)], zones=[("a", (1,)), ("b", (1,))]), list(SMALLEST), (SMALLEST,), plan_of([seeker(True)]),
+    plan_of([OPENER]), SMALLEST[:2],
+]
+
 
 def with_part(thing, path, part):
     """The nested tuple with the part at this path put otherwise."""

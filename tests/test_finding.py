@@ -5,21 +5,16 @@ import itertools
 import random
 import unittest
 
-from graph import Graph
-from samples import GREATEST, ODD_THINGS, OPENER, ORDINARY, SMALLEST, plan_of, random_plan, seeker
+from graph import Graph, rest_of
+from samples import GREATEST, NO_PLANS, OPENER, ORDINARY, SMALLEST, plan_of, random_plan, seeker
 from warnloop.errors import HouseError, NoPlan
 from warnloop.finding import agreeing, heard_with, told_place
-from warnloop.plans import devices, openers, stretches
+from warnloop.plans import devices, stretches
 from warnloop.wires import Wires
 
 # Two places and a spur around an opener: six stretches, so two faults may be asked for.
 SMALL = plan_of([seeker(1, ("bell", 2)), OPENER, seeker(3), seeker(4)])
 NO_OPENER = plan_of([seeker(1), seeker(2, ("bell", 3)), seeker(4)])
-NO_PLANS = ODD_THINGS + [
-    plan_of([seeker(1), seeker(1)]), plan_of([seeker(1), seeker(2)], most=1), plan_of([seeker(1)], zones=[("a", (9,))]),
-    plan_of([seeker(1)], zones=[("a", (1,)), ("b", (1,))]), list(SMALLEST), (SMALLEST,), plan_of([seeker(True)]),
-    plan_of([OPENER]), SMALLEST[:2],
-]
 
 
 def faults_of(plan, loop):
@@ -27,13 +22,8 @@ def faults_of(plan, loop):
 
 
 def heard_by_search(plan, loop, faults):
-    """What is heard by a search in a graph, the openers acting till none changes."""
-    gaps = []
-    for _ in range(2):
-        for opener in openers(plan):
-            parts = Graph(plan, dict(faults), gaps).parts_by_act(opener)
-            gaps = sorted(set(gaps) - {opener} | ({opener} if parts else set()))
-    graph = Graph(plan, dict(faults), gaps)
+    """What is heard by a search in a graph, all at rest."""
+    graph = Graph(plan, dict(faults), rest_of(plan, faults))
     return (tuple(graph.heard(loop, "A")), tuple(graph.heard(loop, "B")))
 
 

@@ -1,9 +1,26 @@
 """Panels: a ring of them, and their logs, which become one."""
 
 from warnloop.errors import NoLink, NoLog, NoPanel, NoText
-from warnloop.things import is_line, is_within
+from warnloop.things import is_line, is_rising, is_row, is_within
 
 MOST_SIGNS = 20
+MOST_PANEL = 3
+MOST_NUMBER = 999
+
+
+def is_entry(thing):
+    """Whether the thing is an entry of a log."""
+    if not is_row(thing, 4, 4):
+        return False
+    stamp, panel, number, text = thing
+    if not is_within(stamp, 0, MOST_NUMBER) or not is_within(number, 0, MOST_NUMBER):
+        return False
+    return is_within(panel, 0, MOST_PANEL) and is_line(text, 1, MOST_SIGNS)
+
+
+def is_log(thing):
+    """Whether the thing is a log."""
+    return isinstance(thing, list) and all([is_entry(part) for part in thing]) and is_rising(thing)
 
 
 def joined(one, other):

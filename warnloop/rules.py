@@ -2,10 +2,11 @@
 
 from warnloop.errors import NoRules
 from warnloop.plans import devices, is_let_by
-from warnloop.things import is_name, is_row, is_within
+from warnloop.things import are_rising_within, is_name, is_row, is_within
 
 MOST_DEEP = 6
 MOST_CONDITIONS = 20
+MOST_BEATS = 60
 SOUNDING_KINDS = ("bell", "door")
 
 
@@ -175,6 +176,19 @@ def check_rules(plan, rules):
     """Refuses what is not let by."""
     if not rules_let_by(plan, rules):
         raise NoRules("no rules that are let by, by a plan that is let by")
+
+
+def is_brought(thing):
+    """Whether the thing is what a beat may bring: who is warned, which keys are turned, and the hour."""
+    if not is_row(thing, 3, 3):
+        return False
+    warned, turned, hour = thing
+    return are_rising_within(warned, 0, 30, 1, 99) and are_rising_within(turned, 0, 10, 0, 9) and is_within(hour, 0, 23)
+
+
+def is_history(thing):
+    """Whether the thing is a history."""
+    return isinstance(thing, list) and 1 <= len(thing) <= MOST_BEATS and all([is_brought(part) for part in thing])
 
 
 def are_warned(many, addresses, warned):

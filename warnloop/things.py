@@ -49,3 +49,11 @@ def is_line(thing, least, most):
     if not isinstance(thing, str) or not least <= len(thing) <= most:
         return False
     return all([sign in SIGNS for sign in thing])
+
+
+def show_words(told):
+    """The words and numbers of the tuple, in order, those of tuples within it too, a blank between."""
+    words = []
+    for part in told:
+        words.extend(part if isinstance(part, tuple) else (part,))
+    return " ".join([str(word) for word in words])

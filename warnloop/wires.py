@@ -47,6 +47,11 @@ def comes_to_short(states, gaps, opener):
     return has_short(states, to_b) or has_short(states, to_a)
 
 
+def all_rest(states, gaps):
+    """Whether no opener would change if it acted."""
+    return all([comes_to_short(states, gaps, opener) == gap for opener, gap in gaps.items()])
+
+
 class Wires:
     """The wires of a plan that is let by."""
 
@@ -117,7 +122,7 @@ class Wires:
 
     def rests(self):
         """Whether no opener would change if it acted."""
-        return all([comes_to_short(self.states, self.gaps, opener) == gap for opener, gap in self.gaps.items()])
+        return all_rest(self.states, self.gaps)
 
     def come_to_rest(self):
         """Brings all to rest; the row of acts that did it."""
