@@ -185,7 +185,8 @@ class Wired(Told):
             ("heard 0 A", "0.1.0 0.2.0 0.2.1"), ("heard 0 B", "0.4.0 0.4.1 0.4.2 0.4.3 0.6.0"),
             ("where 0", "0.2.0 cut; 0.3.0 cut"), ("cut 0 5 0", "ok"), ("heard 0 B", "0.6.0"),
             ("where 0", "0.3.0 short; 0.4.0 short; 0.4.1 short; 0.4.2 short; 0.4.3 short"),
-            ("cut 0 6 0", "ok"), ("heard 0 B", "none"), ("where 0", "more"), ("short 1 0 0", "ok"), ("parted", "1.0 1.1"),
+            ("cut 0 6 0", "ok"), ("heard 0 B", "none"), ("where 0", "more"), ("short 1 0 0", "ok"),
+            ("parted", "1.0 1.1"),
             ("heard 1 A", "none"), ("heard 1 B", "1.2.0 1.5.0"), ("where 1", "1.0.0 cut; 1.0.0 short; 1.1.0 cut"),
             (PLAN, "kept"), ("where 1", "whole"),
         ):
@@ -266,13 +267,15 @@ class Beats(Told):
         thirty_one = " ".join(str(number) for number in range(1, 32))
         for desk in (Desk(), kept_desk()):
             for row in (
-                "beat", "beat ", "beat 24", "beat 99", "beat -1", "beat 05", "beat 00", "beat 005", "beat 100", "beat x",
+                "beat", "beat ", "beat 24", "beat 99", "beat -1", "beat 05", "beat 00", "beat 005",
+                "beat 100", "beat x",
                 "beat 5 ", "beat 5 6", "beat 5 warned", "beat 5 keys", "beat 5 warned keys 1", "beat 5 warned 1 keys",
                 "beat 5 warned 0", "beat 5 warned 100", "beat 5 warned 2 1", "beat 5 warned 1 1", "beat 5 warned 01",
                 f"beat 5 warned {thirty_one}", "beat 5 keys 10", "beat 5 keys 1 0", "beat 5 keys 3 3", "beat 5 keys 00",
                 "beat 5 keys 1 warned 1", "beat 5 warned 1 warned 2", "beat 5 keys 1 keys 2", "beat 5 Warned 1",
                 "beat 5  warned 1", "beat 5 warned  1", "beat 5 warned 1 ", " beat 5", "beat warned 1", "beat keys 1",
-                "beat 5 warned 1 2 keys 1 x", "beat 5 warned 1 x", "beat 5 warned 1,2", "beat 5\n", "beat\n5", "beat\t5",
+                "beat 5 warned 1 2 keys 1 x", "beat 5 warned 1 x", "beat 5 warned 1,2", "beat 5\n",
+                "beat\n5", "beat\t5",
                 "beat 5 warned -1", "beat 5 keys -1", "beat 5 warned +1", "beat 5 keys 9 10", "Beat 5", "beat5",
             ):
                 self.assertIs(self.refused(desk, row), NoRow)
@@ -300,13 +303,18 @@ class Refusals(Told):
         for desk in (Desk(), kept_desk()):
             for row in (
                 "", " ", "\n", "plan", "rules", "plan ", "rules ", "Plan\nmost 1\nloop\nseeker 1\n", "plan \nmost 1\n",
-                " plan\n", "rule\nsound 3 = key 1\n", "plans\n", "rules \n", "parted ", " parted", "parted\n", "parted 0",
-                "Parted", "cut", "cut 0", "cut 0 0", "cut 0 0 0 0", "cut 0 0 0 ", "cut  0 0 0", "cut 0  0 0", "cut 0,0,0",
+                " plan\n", "rule\nsound 3 = key 1\n", "plans\n", "rules \n", "parted ", " parted",
+                "parted\n", "parted 0",
+                "Parted", "cut", "cut 0", "cut 0 0", "cut 0 0 0 0", "cut 0 0 0 ", "cut  0 0 0",
+                "cut 0  0 0", "cut 0,0,0",
                 "cut 0.0.0", "cut 00 0 0", "cut 0 00 0", "cut 0 0 00", "cut 01 0 0", "cut 0 0 100", "cut 100 0 0",
-                "cut -1 0 0", "cut +0 0 0", "cut a b c", "cut 0 0 0\n", "cut\n0 0 0", "cut\t0 0 0", "Cut 0 0 0", "cut000",
-                "mend", "mend 0 0", "short 0 0 0x", "heard", "heard 0", "heard A", "heard 0 C", "heard 0 a", "heard 0 AB",
+                "cut -1 0 0", "cut +0 0 0", "cut a b c", "cut 0 0 0\n", "cut\n0 0 0", "cut\t0 0 0",
+                "Cut 0 0 0", "cut000",
+                "mend", "mend 0 0", "short 0 0 0x", "heard", "heard 0", "heard A", "heard 0 C",
+                "heard 0 a", "heard 0 AB",
                 "heard 0 A B", "heard 0 A ", "heard  0 A", "heard 00 A", "heard 100 A", "heard -1 A", "heard A 0",
-                "heard 0 A\n", "heard x A", "where", "where ", "where 0 0", "where 00", "where A", "where 100", "where 0 ",
+                "heard 0 A\n", "heard x A", "where", "where ", "where 0 0", "where 00", "where A",
+                "where 100", "where 0 ",
                 "where 0\n", "where\n0", "none", "ok", "kept", "say parted", "cut 0 0 \u0661", "where \u0660", "%",
             ):
                 self.assertIs(self.refused(desk, row), NoRow, row)

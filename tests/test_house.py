@@ -112,7 +112,8 @@ class Deeds(unittest.TestCase):
         beats(house, 2, words=((SEEKER, 30), (KNOB, 3)))
         before = all_told(house)
         strangers = ODD_THINGS + [
-            (), ("cut",), ("cut", (0, 0, 0), 0), ("short", (0, 0, 0), 0), ("mend", (0, 0, 0), 0), ["cut", (0, 0, 0)], (("cut", (0, 0, 0)),), ("Cut", (0, 0, 0)),
+            (), ("cut",), ("cut", (0, 0, 0), 0), ("short", (0, 0, 0), 0), ("mend", (0, 0, 0), 0),
+            ["cut", (0, 0, 0)], (("cut", (0, 0, 0)),), ("Cut", (0, 0, 0)),
             ("part", (0, 0)), ("out",), ("out", SEEKER, "seeker"), ("in", SEEKER), ("in", SEEKER, "seeker"),
             ("in", SEEKER, "seeker", 1, 1), ("in", SEEKER, "opener", 0), ("in", SEEKER, "lamp", 1),
             ("in", SEEKER, "seeker", 0), ("in", SEEKER, "seeker", 100), ("in", SEEKER, "seeker", True),
@@ -663,8 +664,9 @@ class Histories(unittest.TestCase):
         words = set()
         for seed in range(40):
             words |= {note.split(" ")[0] for note in self.run_house(seed, ORDINARY, 50)}
-        self.assertEqual(words, {"two", "lost", "back", "first", "warning", "knob", "sounding", "waiting", "still", "used",
-                                 "dumb"})
+        self.assertEqual(words, {
+            "two", "lost", "back", "first", "warning", "knob", "sounding", "waiting", "still", "used", "dumb",
+        })
 
     def test_seeded_houses_of_other_plans(self):
         for seed in range(30):

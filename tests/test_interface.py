@@ -35,7 +35,8 @@ CLASSES = {
     "stores": ("Store", 3, {"keep": 1, "beat": 1, "held": 0, "stands": 0}),
     "panels": ("Ring", 1, {"write": 2, "cut": 1, "mend": 1, "beat": 0, "log_of": 1, "houses": 0}),
     "house": ("House", 4, {
-        "befall": 1, "beat": 4, "press": 0, "silence": 0, "reset": 0, "lengthen": 1, "put_out": 2, "notes": 0, "lost": 0,
+        "befall": 1, "beat": 4, "press": 0, "silence": 0, "reset": 0, "lengthen": 1, "put_out": 2,
+        "notes": 0, "lost": 0,
         "sounded": 0, "warned": 0,
     }),
     "desk": ("Desk", 0, {"say": 1}),
