@@ -81,12 +81,12 @@ def is_free(hows, gaps, way):
 def heard_holds(parts, paper):
     """Whether the paper is a way from the end to the device."""
     plan, faults, parted, end, spot = parts
-    case = resting(plan, faults, parted)
-    if case is None or end not in ENDS or not is_device_spot(plan, spot):
+    laid = resting(plan, faults, parted)
+    if laid is None or end not in ENDS or not is_device_spot(plan, spot):
         return False
     if not are_spots(paper) or paper != way_to(plan, end, spot):
         return False
-    hows, gaps = case
+    hows, gaps = laid
     loop, at, number = spot
     spur = [hows[(loop, at, piece)] for piece in range(1, number + 1)]
     return is_free(hows, gaps, paper) and "cut" not in spur
@@ -115,10 +115,10 @@ def fence_spots(plan, gaps, loop):
 def still_holds(parts, paper):
     """Whether the paper is a fence round the device."""
     plan, faults, parted, spot = parts
-    case = resting(plan, faults, parted)
-    if case is None or not is_device_spot(plan, spot) or not are_spots(paper):
+    laid = resting(plan, faults, parted)
+    if laid is None or not is_device_spot(plan, spot) or not are_spots(paper):
         return False
-    hows, gaps = case
+    hows, gaps = laid
     fair = fence_spots(plan, gaps, spot[0])
     if not all([part in fair for part in paper]) or not is_rising(paper) or spot not in paper:
         return False
